@@ -1,0 +1,1 @@
+"""Nestlaid: boxes in boxes at one fixed place."""
