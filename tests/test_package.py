@@ -7,10 +7,10 @@ import pathlib
 import re
 import unittest
 
-from nestlaid import shares, wording
+from nestlaid import boxes, shares, styles, trees, wording
 
 FOLDER = pathlib.Path(__file__).resolve().parent.parent / "nestlaid"
-MODULES = ("__init__", "errors", "shares", "wording")
+MODULES = ("__init__", "boxes", "checks", "errors", "shares", "styles", "trees", "wording")
 BUILTINS = set(
     "len range enumerate zip min max sum abs sorted reversed int str bool bytes list tuple dict set frozenset "
     "isinstance ord repr any all divmod iter next super property staticmethod classmethod".split()
@@ -27,6 +27,27 @@ FUNCTIONS = {
         "levelled": "(total, floors, weights)",
     },
     wording: {"longest": "(text)", "wished": "(text)", "wrapped": "(text, wide)"},
+    styles: {
+        "Style": "(*, wide=None, high=None, least_wide=None, least_high=None, most_wide=None, most_high=None, "
+                 "grow=0, shrink=1, rims=(0, 0, 0, 0), stand=None)",
+    },
+    boxes: {
+        "Words": "(name, text, *, style=None)",
+        "Picture": "(name, across, down, *, style=None)",
+        "Row": "(name, boxes, *, turn=False, gap=0, lane=0, pack='start', stands='stretch', style=None)",
+        "Pile": "(name, boxes, *, gap=0, pack='start', stands='stretch', style=None)",
+        "Grid": "(name, boxes, spots, *, columns, rows, gap=0, lane=0, stands='stretch', style=None)",
+        "same_record": "(one, other)",
+    },
+    trees: {
+        "names_of": "(tree)",
+        "box_of": "(tree, name)",
+        "holder_of": "(tree, name)",
+        "put": "(tree, holder, at, box, *, spot=None)",
+        "taken": "(tree, name)",
+        "restyled": "(tree, name, style)",
+        "retold": "(tree, name, text)",
+    },
 }
 
 
@@ -44,7 +65,7 @@ class PackageTest(unittest.TestCase):
         found = [path.name for path in FOLDER.iterdir() if path.name != "__pycache__"]
         self.assertEqual(sorted(found), sorted([module + ".py" for module in MODULES]))
 
-    def test_functions_of_the_interface(self):
+    def test_functions_and_classes_of_the_interface(self):
         for module, functions in FUNCTIONS.items():
             for name, told in functions.items():
                 function = getattr(module, name)
@@ -69,6 +90,47 @@ class PackageTest(unittest.TestCase):
             self.assertIsInstance(node, ast.ImportFrom, stem)
             self.assertRegex(node.module, r"\Anestlaid\.[a-z]+\Z", stem)
             self.assertEqual(node.level, 0, stem)
+
+    def test_imports_name_the_file_that_defines_and_go_one_way(self):
+        sources = self.sources()
+        ahead = {stem: set() for stem in sources}
+        for stem, node in self.nodes(ast.ImportFrom):
+            where = node.module.split(".")[1]
+            ahead[stem].add(where)
+            tops = ast.parse(sources[where]).body
+            defined = {top.name for top in tops if isinstance(top, (ast.FunctionDef, ast.ClassDef))}
+            defined |= {top.targets[0].id for top in tops if isinstance(top, ast.Assign)}
+            for alias in node.names:
+                self.assertIn(alias.name, defined, (stem, where))
+        while ahead:
+            free = [stem for stem in ahead if not ahead[stem] & set(ahead)]
+            self.assertNotEqual(free, [], "files import from each other")
+            for stem in free:
+                del ahead[stem]
+
+    def test_no_name_is_a_method_here_and_an_attribute_there(self):
+        methods, fields = set(), set()
+        for stem, node in self.nodes(ast.ClassDef):
+            methods |= {inner.name for inner in node.body if isinstance(inner, ast.FunctionDef)}
+        for stem, node in self.nodes(ast.Attribute):
+            if isinstance(node.ctx, ast.Store):
+                fields.add(node.attr)
+        self.assertEqual(methods & fields, set())
+
+    def test_what_goes_with_an_eq_of_its_own(self):
+        for stem, node in self.nodes(ast.GeneratorExp, ast.Yield, ast.YieldFrom):
+            self.fail((stem, node.lineno))
+        for stem, node in self.nodes(ast.FunctionDef):
+            if node.name in ("__eq__", "__repr__"):
+                changes = (ast.Assign, ast.AugAssign, ast.Delete)
+                self.assertFalse([inner for inner in ast.walk(node) if isinstance(inner, changes)], stem)
+
+    def test_is_with_none_and_truths_alone(self):
+        for stem, node in self.nodes(ast.Compare):
+            for sign, right in zip(node.ops, node.comparators):
+                if isinstance(sign, (ast.Is, ast.IsNot)):
+                    self.assertIsInstance(right, ast.Constant, (stem, node.lineno))
+                    self.assertIn(repr(right.value), ("None", "True", "False"), (stem, node.lineno))
 
     def test_no_floats_no_division_no_percent_sign(self):
         for stem, node in self.nodes(ast.Constant, ast.Div):
