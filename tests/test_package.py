@@ -7,10 +7,14 @@ import pathlib
 import re
 import unittest
 
-from nestlaid import boxes, shares, styles, trees, wording
+from nestlaid import boxes, rules, settle, shares, styles, tracks, trees, wording
 
 FOLDER = pathlib.Path(__file__).resolve().parent.parent / "nestlaid"
-MODULES = ("__init__", "boxes", "checks", "errors", "shares", "styles", "trees", "wording")
+MODULES = (
+    "__init__", "across", "boxes", "checks", "down", "errors", "grids", "lines", "lying", "rules", "scenes", "settle",
+    "shares", "sizes", "styles", "tracks", "trees", "wording",
+)
+FRAME = "wide=80, high=None"
 BUILTINS = set(
     "len range enumerate zip min max sum abs sorted reversed int str bool bytes list tuple dict set frozenset "
     "isinstance ord repr any all divmod iter next super property staticmethod classmethod".split()
@@ -47,6 +51,18 @@ FUNCTIONS = {
         "taken": "(tree, name)",
         "restyled": "(tree, name, style)",
         "retold": "(tree, name, text)",
+    },
+    tracks: {"track_sizes": "(tracks, asks, gap)"},
+    rules: {
+        "needs": f"(tree, name, word, *, {FRAME})",
+        "reads": "(tree, name, word)",
+        "by_rule": f"(tree, name, word, known, *, {FRAME})",
+    },
+    settle: {
+        "asked": f"(tree, *, {FRAME})",
+        "settled": f"(tree, *, {FRAME})",
+        "longest_row": f"(tree, *, {FRAME})",
+        "passes": f"(tree, begin, *, {FRAME})",
     },
 }
 
@@ -138,6 +154,42 @@ class PackageTest(unittest.TestCase):
             if isinstance(node, ast.Constant):
                 self.assertNotIsInstance(node.value, (float, complex), stem)
                 self.assertFalse(isinstance(node.value, str) and "\x25" in node.value, stem)
+
+    def test_names_in_functions_are_no_builtins_imports_or_classes(self):
+        for stem, source in self.sources().items():
+            taken = set(dir(builtins))
+            for node in ast.parse(source).body:
+                if isinstance(node, ast.ImportFrom):
+                    taken |= {alias.asname or alias.name for alias in node.names}
+                elif isinstance(node, ast.ClassDef):
+                    taken.add(node.name)
+            for node in ast.walk(ast.parse(source)):
+                if isinstance(node, ast.arg):
+                    self.assertNotIn(node.arg, taken, (stem, node.lineno))
+                elif isinstance(node, ast.Name) and isinstance(node.ctx, ast.Store):
+                    self.assertNotIn(node.id, taken, (stem, node.lineno))
+
+    def test_a_field_that_is_read_is_set_by_a_class(self):
+        known = set(dir(str)) | set(dir(list)) | set(dir(dict)) | {"__init__"}
+        for stem, node in self.nodes(ast.ClassDef):
+            known |= {inner.name for inner in node.body if isinstance(inner, ast.FunctionDef)}
+        for stem, node in self.nodes(ast.Attribute):
+            if isinstance(node.ctx, ast.Store):
+                known.add(node.attr)
+        for stem, node in self.nodes(ast.Attribute):
+            self.assertIn(node.attr, known, (stem, node.lineno))
+
+    def test_no_statement_that_is_left_out(self):
+        barred = (ast.Global, ast.AsyncFunctionDef, ast.Await, ast.Lambda, ast.Match, ast.NamedExpr, ast.Starred)
+        for stem, node in self.nodes(*barred):
+            # A star stands in a tuple alone.
+            self.assertIsInstance(node, ast.Starred, (stem, node.lineno))
+        for stem, node in self.nodes(ast.Call):
+            self.assertFalse([inner for inner in node.args if isinstance(inner, ast.Starred)], (stem, node.lineno))
+
+    def test_handlers_name_refusals_alone(self):
+        for stem, node in self.nodes(ast.ExceptHandler):
+            self.assertRegex(ast.unparse(node.type), r"\A(No[A-Z][a-z]+|Ring|Busy|NestError)\Z", (stem, node.lineno))
 
     def test_no_other_builtin(self):
         others = {name for name in dir(builtins) if name.islower()} - BUILTINS
