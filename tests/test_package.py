@@ -7,12 +7,13 @@ import pathlib
 import re
 import unittest
 
-from nestlaid import boxes, rules, settle, shares, styles, tracks, trees, wording
+from nestlaid import board, boxes, desk, look, rules, settle, shares, styles, texts, tracks, trees, wording
 
 FOLDER = pathlib.Path(__file__).resolve().parent.parent / "nestlaid"
 MODULES = (
-    "__init__", "across", "boxes", "checks", "down", "errors", "grids", "lines", "lying", "rules", "scenes", "settle",
-    "shares", "sizes", "styles", "tracks", "trees", "wording",
+    "__init__", "across", "board", "boxes", "checks", "deeds", "desk", "down", "errors", "grids", "lines", "look",
+    "lying", "reading", "reckon", "rules", "scenes", "settle", "shares", "sizes", "styles", "texts", "tracks", "trees",
+    "wording", "writing",
 )
 FRAME = "wide=80, high=None"
 BUILTINS = set(
@@ -64,6 +65,35 @@ FUNCTIONS = {
         "longest_row": f"(tree, *, {FRAME})",
         "passes": f"(tree, begin, *, {FRAME})",
     },
+    look: {
+        "places": f"(tree, *, {FRAME})",
+        "box_at": f"(tree, x, y, *, {FRAME})",
+        "drawn": f"(tree, *, {FRAME}, fill='#')",
+        "sticks_out": f"(tree, *, {FRAME})",
+        "snapped": "(some, *, scale=(1, 1))",
+    },
+    board: {"Board": f"(tree, *, {FRAME})"},
+    texts: {"show_tree": "(tree)", "read_tree": "(text)"},
+    desk: {"Desk": "()"},
+}
+METHODS = {
+    board.Board: {
+        "tree": "(self)",
+        "frame": "(self)",
+        "place": "(self, name)",
+        "places": "(self)",
+        "number": "(self, name, word)",
+        "put": "(self, holder, at, box, *, spot=None)",
+        "take": "(self, name)",
+        "restyle": "(self, name, style)",
+        "retell": "(self, name, text)",
+        "set_frame": f"(self, *, {FRAME})",
+        "anew": "(self)",
+        "together": "(self, deeds)",
+        "undo": "(self)",
+        "watch": "(self, watcher)",
+    },
+    desk.Desk: {"say": "(self, row)"},
 }
 
 
@@ -87,6 +117,12 @@ class PackageTest(unittest.TestCase):
                 function = getattr(module, name)
                 self.assertEqual(str(inspect.signature(function)), told)
                 self.assertEqual(function.__module__, module.__name__)
+
+    def test_methods_of_the_interface(self):
+        for kind, methods in METHODS.items():
+            for name, told in methods.items():
+                # In the class itself, not only in one above it.
+                self.assertEqual(str(inspect.signature(vars(kind)[name])), told)
 
     def test_signs_and_lines(self):
         for stem, source in self.sources().items():
